@@ -90,6 +90,68 @@ func checkLayout(t *testing.T, path string, src []byte) {
 	}
 }
 
+// checkVariables: at package level stand values that are written out, and no map, function or float.
+func checkVariables(t *testing.T, path string, file *ast.File) {
+	for _, d := range file.Decls {
+		group, ok := d.(*ast.GenDecl)
+		if !ok || group.Tok != token.VAR {
+			continue
+		}
+		for _, spec := range group.Specs {
+			v := spec.(*ast.ValueSpec)
+			if len(v.Values) != len(v.Names) {
+				t.Errorf("%s: %s has no value of its own", path, v.Names[0].Name)
+			}
+			ast.Inspect(v, func(n ast.Node) bool {
+				switch x := n.(type) {
+				case *ast.MapType, *ast.FuncType:
+					t.Errorf("%s: %s holds a map or a function", path, v.Names[0].Name)
+				case *ast.BasicLit:
+					if x.Kind == token.FLOAT {
+						t.Errorf("%s: %s holds a float", path, v.Names[0].Name)
+					}
+				}
+				return true
+			})
+		}
+	}
+}
+
+func checkMaps(t *testing.T, path string, file *ast.File) {
+	ast.Inspect(file, func(n ast.Node) bool {
+		m, ok := n.(*ast.MapType)
+		if !ok {
+			return true
+		}
+		if v, ok := m.Value.(*ast.Ident); ok && (v.Name == "bool" || v.Name == "string") {
+			t.Errorf("%s has a map of %ss", path, v.Name)
+		}
+		return true
+	})
+}
+
+// In the packages' folders stand Go files alone.
+func TestNoOtherFiles(t *testing.T) {
+	folders, err := os.ReadDir("..")
+	if err != nil {
+		t.Fatal(err)
+	}
+	for _, folder := range folders {
+		if !folder.IsDir() || strings.HasPrefix(folder.Name(), ".") || folder.Name() == sharedTests {
+			continue
+		}
+		files, err := os.ReadDir(filepath.Join("..", folder.Name()))
+		if err != nil {
+			t.Fatal(err)
+		}
+		for _, f := range files {
+			if f.IsDir() || !strings.HasSuffix(f.Name(), ".go") {
+				t.Errorf("%s/%s is no Go file", folder.Name(), f.Name())
+			}
+		}
+	}
+}
+
 func TestProgramFiles(t *testing.T) {
 	for _, path := range programFiles(t) {
 		src, err := os.ReadFile(path)
@@ -105,5 +167,7 @@ func TestProgramFiles(t *testing.T) {
 		checkComments(t, path, file)
 		checkLengths(t, path, set, file)
 		checkLayout(t, path, src)
+		checkVariables(t, path, file)
+		checkMaps(t, path, file)
 	}
 }
