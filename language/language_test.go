@@ -130,6 +130,23 @@ func checkMaps(t *testing.T, path string, file *ast.File) {
 	})
 }
 
+// checkRecovers: recover stands in a deferred function literal alone.
+func checkRecovers(t *testing.T, path string, file *ast.File) {
+	ast.Inspect(file, func(n ast.Node) bool {
+		switch x := n.(type) {
+		case *ast.DeferStmt:
+			if _, ok := x.Call.Fun.(*ast.FuncLit); ok {
+				return false
+			}
+		case *ast.Ident:
+			if x.Name == "recover" {
+				t.Errorf("%s recovers outside of a deferred function literal", path)
+			}
+		}
+		return true
+	})
+}
+
 // In the packages' folders stand Go files alone.
 func TestNoOtherFiles(t *testing.T) {
 	folders, err := os.ReadDir("..")
@@ -169,5 +186,6 @@ func TestProgramFiles(t *testing.T) {
 		checkLayout(t, path, src)
 		checkVariables(t, path, file)
 		checkMaps(t, path, file)
+		checkRecovers(t, path, file)
 	}
 }
