@@ -76,3 +76,29 @@ func Sys(d api.SysDef) api.SysDef {
 	d.Places = Flat(d.Places)
 	return d
 }
+
+// Document is a copy of an executable document.
+func Document(d api.Document) api.Document {
+	d.Defs = List(d.Defs, def)
+	return d
+}
+
+func def(d api.Def) api.Def {
+	d.Vars = List(d.Vars, variable)
+	d.Dirs = List(d.Dirs, Dir)
+	d.Sels = List(d.Sels, selection)
+	return d
+}
+
+func variable(d api.VarDef) api.VarDef {
+	d.Default = Lit(d.Default)
+	d.Dirs = List(d.Dirs, Dir)
+	return d
+}
+
+func selection(s api.Sel) api.Sel {
+	s.Args = List(s.Args, Arg)
+	s.Dirs = List(s.Dirs, Dir)
+	s.Sels = List(s.Sels, selection)
+	return s
+}

@@ -117,6 +117,7 @@ func TestCopies(t *testing.T) {
 	check(t, "Field", copies.Field)
 	check(t, "EnumValue", copies.EnumValue)
 	check(t, "Sys", copies.Sys)
+	check(t, "Document", copies.Document)
 	check(t, "Flat", copies.Flat[api.Named])
 	check(t, "Flat", copies.Flat[string])
 	check(t, "List", func(list []api.Lit) []api.Lit { return copies.List(list, copies.Lit) })
@@ -134,7 +135,13 @@ func TestCopiesOfNone(t *testing.T) {
 
 // The room of a copy is no more than its elements take.
 func TestNoSpareRoom(t *testing.T) {
-	eachList(reflect.ValueOf(copies.Sys(filled[api.SysDef](4))), func(list reflect.Value) {
+	checkNoSpareRoom(t, copies.Sys(filled[api.SysDef](4)))
+	checkNoSpareRoom(t, copies.Document(filled[api.Document](4)))
+}
+
+func checkNoSpareRoom(t *testing.T, thing any) {
+	t.Helper()
+	eachList(reflect.ValueOf(thing), func(list reflect.Value) {
 		if list.Cap() != list.Len() {
 			t.Errorf("a list of %d elements has room for %d", list.Len(), list.Cap())
 		}
