@@ -2,24 +2,16 @@ package shape
 
 import (
 	"slices"
-	"strconv"
 
 	"pergola/api"
-	"pergola/lits"
-	"pergola/typesys"
+	"pergola/batch"
 )
-
-// literal is a value in the type system, and the type of its place.
-type literal struct {
-	value api.Lit
-	want  api.TypeRef
-}
 
 func literalRules(s *system, uses []use) []rule {
 	return []rule{
 		func(tell teller) {
 			all := slices.Concat(given(uses), presets(s.args), presets(s.inputFields))
-			for _, f := range s.literalFaults(all) {
+			for _, f := range batch.Faults(s.types, all) {
 				tell(f.Kind, f.Pos...)
 			}
 		},
@@ -27,13 +19,13 @@ func literalRules(s *system, uses []use) []rule {
 }
 
 // given are the values of arguments in uses; what has no place in a directive's definition has the zero reference.
-func given(uses []use) []literal {
-	var all []literal
+func given(uses []use) []batch.Literal {
+	var all []batch.Literal
 	for _, u := range uses {
 		for _, arg := range u.Args {
-			made := literal{value: arg.Value}
+			made := batch.Literal{Value: arg.Value}
 			if u.of != nil {
-				made.want = u.of.types[arg.Name]
+				made.Want = u.of.types[arg.Name]
 			}
 			all = append(all, made)
 		}
@@ -42,26 +34,12 @@ func given(uses []use) []literal {
 }
 
 // presets are the defaults of inputs.
-func presets(inputs []api.InputDef) []literal {
-	var all []literal
+func presets(inputs []api.InputDef) []batch.Literal {
+	var all []batch.Literal
 	for _, d := range inputs {
 		if d.HasDefault {
-			all = append(all, literal{d.Default, d.Type})
+			all = append(all, batch.Literal{Value: d.Default, Want: d.Type})
 		}
 	}
 	return all
-}
-
-// literalFaults holds all literals against their types at one go, as the fields of one object at an input type that is made for it: each question looks up anew every type that it meets, so that a question for each literal would go through great types again and again.
-func (s *system) literalFaults(all []literal) []api.Fault {
-	holder := api.SysDef{Kind: api.SysInput, Name: "(all literals)"}
-	object := api.Lit{Kind: api.LitObject}
-	for i, l := range all {
-		name := strconv.Itoa(i)
-		holder.Inputs = append(holder.Inputs, api.InputDef{Name: name, Type: l.want})
-		object.Fields = append(object.Fields, api.LitField{Name: name, Value: l.value})
-	}
-	// No source has a type of the holder's name, so that all other types are as they were.
-	types := typesys.Build(append(slices.Clone(s.types), holder))
-	return lits.Check(types, object, api.TypeRef{Name: holder.Name})
 }
