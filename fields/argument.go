@@ -2,6 +2,7 @@ package fields
 
 import (
 	"pergola/api"
+	"pergola/rules"
 	"pergola/scope"
 )
 
@@ -13,7 +14,7 @@ type call struct {
 }
 
 func callsOf(s *scope.Sheet) []*call {
-	c := newCatalog(typesOf(s))
+	c := newCatalog(rules.Types(s))
 	var calls []*call
 	for _, node := range s.Nodes() {
 		if node.Kind == api.SelField {
@@ -30,7 +31,7 @@ func callsOf(s *scope.Sheet) []*call {
 	return calls
 }
 
-func (c *call) place() api.Pos { return c.pos }
+func (c *call) At() api.Pos { return c.pos }
 
 // argument is an argument of a call.
 type argument struct {
@@ -49,7 +50,7 @@ func argumentsOf(calls []*call) []argument {
 	return args
 }
 
-func (a argument) place() api.Pos { return a.Pos }
+func (a argument) At() api.Pos { return a.Pos }
 
 // argName is the name of arguments of one call.
 type argName struct {

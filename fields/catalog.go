@@ -2,18 +2,8 @@ package fields
 
 import (
 	"pergola/api"
-	"pergola/scope"
 	"pergola/typesys"
 )
-
-// typesOf is the sheet's type system. In the place of nil it is that of no definitions, as which nil answers, but by building it at each question.
-func typesOf(s *scope.Sheet) *typesys.Types {
-	types := s.Types()
-	if types == nil {
-		return typesys.Build(nil)
-	}
-	return types
-}
 
 // set is a set of names.
 type set map[string]struct{}

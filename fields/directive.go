@@ -2,6 +2,7 @@ package fields
 
 import (
 	"pergola/api"
+	"pergola/rules"
 	"pergola/scope"
 )
 
@@ -12,7 +13,7 @@ type mark struct {
 }
 
 func marksOf(s *scope.Sheet) []mark {
-	c := newCatalog(typesOf(s))
+	c := newCatalog(rules.Types(s))
 	var marks []mark
 	for _, m := range s.Marks() {
 		marks = append(marks, mark{m, c.directiveOf(m)})
@@ -20,7 +21,7 @@ func marksOf(s *scope.Sheet) []mark {
 	return marks
 }
 
-func (m mark) place() api.Pos { return m.Dir.Pos }
+func (m mark) At() api.Pos { return m.Dir.Pos }
 
 // dirName is the name of directives at one owner. Its number alone isn't enough, for the numbers below 0 begin anew in each definition.
 type dirName struct {

@@ -18,6 +18,6 @@ func operationsOf(defs []api.Def) []operation {
 	return ops
 }
 
-func (o operation) place() api.Pos { return o.Pos }
+func (o operation) At() api.Pos { return o.Pos }
 
 func (o operation) ownName() (string, bool) { return o.Name, o.Name != "" }

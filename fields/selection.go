@@ -2,6 +2,7 @@ package fields
 
 import (
 	"pergola/api"
+	"pergola/rules"
 	"pergola/scope"
 	"pergola/typesys"
 )
@@ -22,7 +23,7 @@ type field struct {
 }
 
 func fieldsOf(s *scope.Sheet) []field {
-	types := typesOf(s)
+	types := rules.Types(s)
 	var fields []field
 	for _, node := range s.Nodes() {
 		if node.Kind == api.SelField {
@@ -32,7 +33,7 @@ func fieldsOf(s *scope.Sheet) []field {
 	return fields
 }
 
-func (f field) place() api.Pos { return f.Pos }
+func (f field) At() api.Pos { return f.Pos }
 
 // sortOf asks whether a type goes in or out, for to ask for the type itself would copy its definition. Scalars and enums alone go both ways.
 func sortOf(types *typesys.Types, name string) sort {

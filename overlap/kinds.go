@@ -3,6 +3,7 @@ package overlap
 import (
 	"slices"
 
+	"pergola/rules"
 	"pergola/scope"
 	"pergola/typesys"
 )
@@ -23,11 +24,7 @@ type kinds struct {
 }
 
 func newKinds(s *scope.Sheet) *kinds {
-	types := s.Types()
-	if types == nil {
-		types = typesys.Build(nil) // as which nil answers, but by building it at each question
-	}
-	return &kinds{types, map[string]kind{}}
+	return &kinds{rules.Types(s), map[string]kind{}}
 }
 
 func (k *kinds) of(name string) kind {
