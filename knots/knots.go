@@ -3,7 +3,7 @@ package knots
 
 import "slices"
 
-// Of are the nodes of a graph in sets of those that lead to one another (Kosaraju's way); one that isn't led back to is alone. The graph says of each node, by its number, to which others it leads. No call is nested, for a way may be as long as there are nodes.
+// Of are the nodes of a graph in sets of those that lead to one another (Kosaraju's way); one that isn't led back to is alone. No set leads to one that stands ahead of it. The graph says of each node, by its number, to which others it leads. No call is nested, for a way may be as long as there are nodes.
 func Of(steps [][]int) [][]int {
 	g := graph(steps)
 	var knots [][]int

@@ -49,6 +49,24 @@ func slow(steps [][]int) [][]int {
 	return sorted(out)
 }
 
+// checkOrder: no set leads to one ahead of it.
+func checkOrder(t *testing.T, steps, sets [][]int) {
+	t.Helper()
+	rank := make([]int, len(steps))
+	for i, set := range sets {
+		for _, node := range set {
+			rank[node] = i
+		}
+	}
+	for from, list := range steps {
+		for _, to := range list {
+			if rank[to] < rank[from] {
+				t.Errorf("%v: %d leads to %d, which stands ahead of it in %v", steps, from, to, sets)
+			}
+		}
+	}
+}
+
 func TestOf(t *testing.T) {
 	for _, c := range []struct{ steps, want [][]int }{
 		{nil, nil},
@@ -59,7 +77,9 @@ func TestOf(t *testing.T) {
 		{[][]int{{1, 1}, {0, 2}, {3}, {2, 2}}, [][]int{{0, 1}, {2, 3}}},
 		{[][]int{{1, 2}, {0}, {0}, {0, 3}}, [][]int{{0, 1, 2}, {3}}},
 	} {
-		if got := sorted(knots.Of(c.steps)); !reflect.DeepEqual(got, c.want) {
+		got := knots.Of(c.steps)
+		checkOrder(t, c.steps, got)
+		if got := sorted(got); !reflect.DeepEqual(got, c.want) {
 			t.Errorf("%v: got %v, want %v", c.steps, got, c.want)
 		}
 	}
@@ -77,7 +97,9 @@ func TestMadeByChance(t *testing.T) {
 		for _, list := range steps {
 			before = append(before, slices.Clone(list))
 		}
-		if got, want := sorted(knots.Of(steps)), slow(steps); !reflect.DeepEqual(got, want) {
+		got := knots.Of(steps)
+		checkOrder(t, steps, got)
+		if got, want := sorted(got), slow(steps); !reflect.DeepEqual(got, want) {
 			t.Fatalf("%v: got %v, want %v", steps, got, want)
 		}
 		if !reflect.DeepEqual(steps, before) {
