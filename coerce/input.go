@@ -1,7 +1,6 @@
 package coerce
 
 import (
-	"math"
 	"slices"
 
 	"pergola/api"
@@ -9,6 +8,7 @@ import (
 	"pergola/tree"
 	"pergola/typesys"
 	"pergola/utf"
+	"pergola/values"
 )
 
 // holder holds a value against a type. A value that can't be, for it has too many parts or a default without a value, is a misfit too, but behind all others: so what is given is gone through to its end, and only nothing more is made of it.
@@ -42,11 +42,11 @@ func (h *holder) hold(v api.Value, want api.TypeRef) (api.Value, error) {
 	bare, forbidsNull := typesys.Bare(want)
 	item, isList := typesys.Item(want)
 	switch {
-	case forbidsNull && isNull(v):
+	case forbidsNull && values.IsNull(v):
 		return api.Value{}, h.misfit(want)
 	case forbidsNull:
 		return h.hold(v, bare)
-	case isNull(v):
+	case values.IsNull(v):
 		h.room--
 		return api.Value{}, nil
 	case !isList:
@@ -115,7 +115,7 @@ func (h *holder) holdFree(v api.Value, want api.TypeRef) (api.Value, error) {
 	if !h.isMaking() {
 		return api.Value{}, nil
 	}
-	return plain(v), nil
+	return values.Plain(v), nil
 }
 
 func (h *holder) holdObject(members []api.Member, at *named) (api.Value, error) {
@@ -188,7 +188,7 @@ func leaf(v api.Value, at *named) (api.Value, bool) {
 		return scalar(v, at.name)
 	case api.SysEnum:
 		_, ok := at.numbers[v.Text]
-		return text(v.Text), ok && v.Kind == api.KindString
+		return values.Text(v.Text), ok && v.Kind == api.KindString
 	}
 	return api.Value{}, false
 }
@@ -198,26 +198,22 @@ func scalar(v api.Value, name string) (api.Value, bool) {
 	isWhole := v.Kind == api.KindInt
 	switch name {
 	case "Int":
-		return plain(v), isWhole && number.Fits(v.Int)
+		return values.Plain(v), isWhole && number.Fits(v.Int)
 	case "Float":
 		if isWhole {
 			float, _ := number.OfWhole(v.Int)
 			return api.Value{Kind: api.KindFloat, Float: float}, true
 		}
-		return plain(v), v.Kind == api.KindFloat && isFinite(v.Float)
+		return values.Plain(v), v.Kind == api.KindFloat && values.IsFinite(v.Float)
 	case "String":
-		return plain(v), isText
+		return values.Plain(v), isText
 	case "Boolean":
-		return plain(v), v.Kind == api.KindBool
+		return values.Plain(v), v.Kind == api.KindBool
 	case "ID":
 		if isWhole {
-			return text(number.WholeText(v.Int)), true
+			return values.Text(number.WholeText(v.Int)), true
 		}
-		return plain(v), isText
+		return values.Plain(v), isText
 	}
 	return api.Value{}, false
-}
-
-func isFinite(f float64) bool {
-	return !math.IsNaN(f) && !math.IsInf(f, 0)
 }

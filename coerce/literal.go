@@ -6,6 +6,7 @@ import (
 	"pergola/number"
 	"pergola/tree"
 	"pergola/typesys"
+	"pergola/values"
 )
 
 // maker makes the values of literals in which variables stand. Where a part fails, nothing more is made.
@@ -54,10 +55,10 @@ func (m *maker) value(v api.Lit, want api.TypeRef) (api.Value, bool, api.Errno) 
 
 // ready is a value that needs nothing more but that null may stand there.
 func (m *maker) ready(v api.Value, want api.TypeRef) (api.Value, bool, api.Errno) {
-	if isNull(v) && isMarked(want) || !m.take(tree.Count(v)) {
+	if values.IsNull(v) && isMarked(want) || !m.take(tree.Count(v)) {
 		return fail()
 	}
-	return plain(v), true, api.OK
+	return values.Plain(v), true, api.OK
 }
 
 func (m *maker) atList(v api.Lit, item api.TypeRef) (api.Value, bool, api.Errno) {
@@ -194,7 +195,7 @@ func (m *maker) single(v api.Lit, want api.TypeRef, at *named) (api.Value, bool,
 func (m *maker) singleAt(v api.Lit, want api.TypeRef, at *named) (api.Value, bool) {
 	switch {
 	case at.kind == api.SysEnum:
-		made, ok := leaf(text(v.Text), at)
+		made, ok := leaf(values.Text(v.Text), at)
 		return made, ok && v.Kind == api.LitEnum
 	case at.isCustom():
 		return said(v)
@@ -211,7 +212,7 @@ func said(v api.Lit) (api.Value, bool) {
 	case api.LitBool:
 		return api.Value{Kind: api.KindBool, Bool: v.Text == "true"}, true
 	case api.LitString, api.LitEnum:
-		return text(v.Text), true
+		return values.Text(v.Text), true
 	}
 	return api.Value{}, false
 }
