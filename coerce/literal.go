@@ -12,12 +12,12 @@ import (
 // maker makes the values of literals in which variables stand. Where a part fails, nothing more is made.
 type maker struct {
 	*catalog
-	vars *lookup
+	vars *values.Lookup
 	room int // how many parts the value may still have
 }
 
 func newMaker(t *typesys.Types, vars []api.Member) *maker {
-	return &maker{catalog: newCatalog(t), vars: newLookup(vars), room: api.MostParts}
+	return &maker{catalog: newCatalog(t), vars: values.NewLookup(vars), room: api.MostParts}
 }
 
 // take: is there room for so many parts more?
@@ -38,7 +38,7 @@ func fail() (api.Value, bool, api.Errno) {
 func (m *maker) value(v api.Lit, want api.TypeRef) (api.Value, bool, api.Errno) {
 	switch v.Kind {
 	case api.LitVar:
-		value, ok := m.vars.find(v.Text)
+		value, ok := m.vars.Find(v.Text)
 		if !ok {
 			return none()
 		}
@@ -177,7 +177,7 @@ func (m *maker) fill(input api.InputDef) (api.Value, bool, api.Errno) {
 
 // constant is a default's value, if it has one, and how much room it leaves. It is what layer 13's Const answers, which would look up anew what is known here. The room ends defaults that have no end.
 func (c *catalog) constant(v api.Lit, want api.TypeRef, room int) (api.Value, int, bool) {
-	m := maker{catalog: c, vars: newLookup(nil), room: room}
+	m := maker{catalog: c, vars: values.NewLookup(nil), room: room}
 	made, has, errno := m.value(v, want)
 	return made, m.room, has && errno == api.OK
 }

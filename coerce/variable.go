@@ -1,6 +1,9 @@
 package coerce
 
-import "pergola/api"
+import (
+	"pergola/api"
+	"pergola/values"
+)
 
 // variables are the values of variables, and a fault for each whose value doesn't fit.
 func (c *catalog) variables(defs []api.VarDef, given api.Value) ([]api.Member, []api.Fault) {
@@ -9,7 +12,7 @@ func (c *catalog) variables(defs []api.VarDef, given api.Value) ([]api.Member, [
 	if given.Kind != api.KindObject {
 		given = api.Value{}
 	}
-	brought := newLookup(given.Fields)
+	brought := values.NewLookup(given.Fields)
 	for _, def := range defs {
 		value, has, err := c.variable(def, brought)
 		switch {
@@ -23,8 +26,8 @@ func (c *catalog) variables(defs []api.VarDef, given api.Value) ([]api.Member, [
 }
 
 // variable is the value of a variable; false: it has none, and needs none.
-func (c *catalog) variable(def api.VarDef, brought *lookup) (api.Value, bool, error) {
-	if v, ok := brought.find(def.Name); ok {
+func (c *catalog) variable(def api.VarDef, brought *values.Lookup) (api.Value, bool, error) {
+	if v, ok := brought.Find(def.Name); ok {
 		value, err := c.input(v, def.Type)
 		return value, err == nil, err
 	}

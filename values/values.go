@@ -1,4 +1,4 @@
-// Package values is what the layers share that hold values against types: which value counts as null, and what is left of a value when all that doesn't count is taken away.
+// Package values is what the layers share that hold values against types or look them up: which value counts as null, what is left of a value when all that doesn't count is taken away, and the value that a name has.
 package values
 
 import (
